@@ -1,0 +1,96 @@
+"""The names, arguments and defaults of the interface, and the sizes and imports of the files."""
+
+import ast
+import unittest
+from importlib import import_module
+from inspect import isfunction, signature
+from pathlib import Path
+
+PACKAGE = Path(__file__).resolve().parent.parent / "untaughthelm"
+
+FUNCTIONS = {
+    "ratios": """is_whole(thing, low=None, high=None); is_ratio(thing); make_ratio(top, bottom=1);
+        ratio_plus(one, other); ratio_minus(one, other); ratio_times(one, other); ratio_over(one, other);
+        ratio_negative(one); ratio_size(one); compare_ratios(one, other); least_ratio(things);
+        greatest_ratio(things); ratio_text(one); parse_ratio(text)""",
+    "fields": "same_field(one, other)",
+    "rows": """zero_row(width); unit_row(width, place); unit_table(width); row_plus(field, one, other);
+        row_minus(field, one, other); row_times(field, number, row); dot(field, one, other);
+        table_row(field, table, row); row_table(field, row, table, width=None); table_table(field, one, other);
+        table_plus(field, one, other); turned(table)""",
+    "spans": "solve(field, table, goal); inverse(field, table)",
+}
+
+CLASSES = {
+    ("fields", "Field"): """__init__(self, prime=None); number(self, top, bottom=1); plus(self, one, other);
+        minus(self, one, other); times(self, one, other); over(self, one, other); negative(self, one);
+        parse(self, text); holds(self, thing); holds_row(self, thing, width); text(self, number);
+        __eq__(self, other)""",
+    ("spans", "Span"): """__init__(self, field, width, rows=()); with_row(self, row); is_new(self, row);
+        weights(self, row); echelon(self); silent_rows(self); __eq__(self, other)""",
+    ("plants", "Plant"): """__init__(self, field, a, b); step(self, x, u); run(self, start, puts);
+        steps(self, start, puts); with_law(self, table); mixed(self, table, input_table=None);
+        __eq__(self, other)""",
+}
+
+
+def told_calls(text):
+    for told in text.split(";"):
+        name, bracket, rest = told.strip().partition("(")
+        yield name, bracket + rest
+
+
+def files():
+    return sorted(PACKAGE.rglob("*.py"))
+
+
+class Interface(unittest.TestCase):
+    def test_functions(self):
+        for module, text in FUNCTIONS.items():
+            for name, arguments in told_calls(text):
+                with self.subTest(name):
+                    function = getattr(import_module("untaughthelm." + module), name)
+                    self.assertTrue(isfunction(function))
+                    self.assertEqual(function.__module__, "untaughthelm." + module)
+                    self.assertEqual(str(signature(function)), arguments)
+
+    def test_classes(self):
+        for (module, name), text in CLASSES.items():
+            told = getattr(import_module("untaughthelm." + module), name)
+            self.assertEqual(told.__module__, "untaughthelm." + module)
+            for method, arguments in told_calls(text):
+                with self.subTest(name + "." + method):
+                    self.assertEqual(str(signature(vars(told)[method])), arguments)
+
+
+class Files(unittest.TestCase):
+    def test_there_is_nothing_but_python_files(self):
+        for path in PACKAGE.rglob("*"):
+            if path.is_file() and path.parent.name != "__pycache__":
+                self.assertEqual(path.suffix, ".py")
+
+    def test_sizes_and_characters(self):
+        for path in files():
+            text = path.read_text(encoding="utf-8")
+            lines = text.split("\n")
+            self.assertLessEqual(len(lines), 400, path)
+            self.assertLessEqual(max(len(line) for line in lines), 120, path)
+            self.assertTrue(all(sign == "\n" or " " <= sign <= "~" for sign in text), path)
+            for node in ast.walk(ast.parse(text)):
+                if isinstance(node, ast.FunctionDef):
+                    self.assertLessEqual(node.end_lineno - node.lineno + 1, 40, node.name)
+
+    def test_imports(self):
+        for path in files():
+            for node in ast.walk(ast.parse(path.read_text(encoding="utf-8"))):
+                self.assertNotIsInstance(node, ast.Import)
+                if isinstance(node, ast.ImportFrom):
+                    self.assertEqual(node.level, 0)
+                    if node.module == "math":
+                        self.assertEqual([name.name for name in node.names], ["gcd"])
+                    else:
+                        self.assertTrue(node.module.startswith("untaughthelm."), node.module)
+
+
+if __name__ == "__main__":
+    unittest.main()
