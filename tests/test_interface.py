@@ -19,6 +19,13 @@ FUNCTIONS = {
         table_row(field, table, row); row_table(field, row, table, width=None); table_table(field, one, other);
         table_plus(field, one, other); turned(table)""",
     "spans": "solve(field, table, goal); inverse(field, table)",
+    "planttext": "plant_text(plant); parse_plant(text)",
+    "reaches": """drift(plant, x, ticks); responses(plant, ticks); reach(plant, ticks); nulls(plant, ticks);
+        hull(plant, start); input_rank(plant); longest(plant); uncontrolled(plant);
+        puts_to(plant, start, goal, ticks)""",
+    "unlike": "missed(record, plant); fitting_plant(record); reply(record, x, u); unlike(record, x, u)",
+    "escapes": "falling(record); find_escape(record)",
+    "onelaw": "one_law(record)",
 }
 
 CLASSES = {
@@ -31,6 +38,13 @@ CLASSES = {
     ("plants", "Plant"): """__init__(self, field, a, b); step(self, x, u); run(self, start, puts);
         steps(self, start, puts); with_law(self, table); mixed(self, table, input_table=None);
         __eq__(self, other)""",
+    ("records", "Record"): """__init__(self, field, size, inputs, rows=()); with_row(self, x, u, y);
+        weights(self, x, u); quarrel(self); joined(self, other); cut(self, low, high); without(self, lot);
+        of_run(cls, plant, start, puts); __len__(self); __iter__(self); __eq__(self, other)""",
+    ("escapes", "Escape"): "__init__(self, plant, rows, table); __eq__(self, other)",
+    ("onelaw", "OneLaw"): "__init__(self, table, spaces); __eq__(self, other)",
+    ("onelaw", "Silent"): "__init__(self, row); __eq__(self, other)",
+    ("onelaw", "Shadow"): "__init__(self, plant, rows, table); __eq__(self, other)",
 }
 
 
@@ -60,7 +74,10 @@ class Interface(unittest.TestCase):
             self.assertEqual(told.__module__, "untaughthelm." + module)
             for method, arguments in told_calls(text):
                 with self.subTest(name + "." + method):
-                    self.assertEqual(str(signature(vars(told)[method])), arguments)
+                    found = vars(told)[method]
+                    if isinstance(found, classmethod):
+                        found = found.__func__
+                    self.assertEqual(str(signature(found)), arguments)
 
 
 class Files(unittest.TestCase):

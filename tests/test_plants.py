@@ -1,8 +1,8 @@
 import unittest
 from inspect import isgenerator
 
-from sums import FIELDS, FRACTIONS, lists, packed_row, packed_table, product_of, raised, sum_of, times_column, value_table
-from sums import values, wholes
+from sums import FIELDS, FRACTIONS, NO_ROWS, lists, packed_row, packed_table, product_of, raised, sum_of, times_column
+from sums import value_table, values, wholes
 from untaughthelm.errors import BadPlant, BadRow, BadTable
 from untaughthelm.fields import Field
 from untaughthelm.plants import Plant
@@ -10,8 +10,6 @@ from untaughthelm.rows import table_table, unit_table
 from untaughthelm.spans import inverse
 
 SHAPES = tuple((size, inputs) for size in (1, 2, 3, 4) for inputs in (1, 2, 3))
-NO_ROWS = (None, 3, "ab", {(1, 1): 1, (0, 1): 2}, {(1, 1), (0, 1)}, (1, 1), [(1, 1), None], [(1, 1), [1, 1]],
-           [(1, 1), (2, 4)], [(1, 1), (1, 0)], ((True, 1), (1, 1)), wholes(1, 2, 3), wholes(1))
 
 
 def some_plant(field, size, inputs, seed=1):

@@ -8,7 +8,7 @@ from sums import times_column, value_table, wholes
 from untaughthelm.errors import BadRow, BadTable
 from untaughthelm.fields import Field
 from untaughthelm.rows import dot, row_table, table_row, table_table, unit_row, unit_table, zero_row
-from untaughthelm.spans import Span, inverse, solve
+from untaughthelm.spans import Span, echelon_rows, inverse, silent_space, solve
 
 
 def rank_of(rows):
@@ -387,6 +387,25 @@ class Inverses(unittest.TestCase):
 
     def test_packed_numbers(self):
         self.assertEqual(packed(Field(7), Fraction(1, 2)), (4, 1))
+
+
+class SpacesOfRows(unittest.TestCase):
+    def test_echelon_rows(self):
+        for field in FIELDS:
+            rows = packed_table(field, value_table(7, 3, 4, field))
+            self.assertEqual(echelon_rows(field, 4, rows), Span(field, 4, rows).echelon())
+            self.assertEqual(echelon_rows(field, 4, ()), ())
+
+    def test_silent_space(self):
+        self.assertEqual(silent_space(FRACTIONS, 2, [wholes(2, 1)]), (((1, 1), (-2, 1)),))
+        for field in FIELDS:
+            self.assertEqual(silent_space(field, 3, ()), unit_table(3))
+            self.assertEqual(silent_space(field, 3, unit_table(3)), ())
+            rows = packed_table(field, value_table(7, 2, 4, field))
+            told = silent_space(field, 4, rows)
+            self.assertEqual(told, Span(field, 4, told).echelon())
+            self.assertEqual(len(told), 4 - Span(field, 4, rows).rank)
+            self.assertTrue(all(dot(field, row, other) == (0, 1) for row in told for other in rows))
 
 
 class Products(unittest.TestCase):

@@ -138,3 +138,13 @@ def inverse(field, table):
     if span.rank < size:
         return None
     return tuple([span.weights(row) for row in unit_table(size)])
+
+
+def echelon_rows(field, width, rows):
+    """Return the reduced echelon rows of what some rows span."""
+    return Span(field, width, rows).echelon()
+
+
+def silent_space(field, width, rows):
+    """Return the reduced echelon rows of all rows whose dot with each of some rows is 0."""
+    return echelon_rows(field, width, Span(field, width, rows).silent_rows())
