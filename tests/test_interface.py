@@ -26,6 +26,21 @@ FUNCTIONS = {
     "unlike": "missed(record, plant); fitting_plant(record); reply(record, x, u); unlike(record, x, u)",
     "escapes": "falling(record); find_escape(record)",
     "onelaw": "one_law(record)",
+    "wrongrows": """fitting_lots(record, wrong); sure_reply(record, wrong, x, u); loose(record, wrong);
+        disguise(record, wrong)""",
+    "learning": "learn(plant, start); learning_fault(field, size, inputs, learning)",
+    "lateasking": "learning_ticks(size, inputs, late); learn_late(plant, start, late)",
+    "polynomials": """trimmed(row); poly_plus(field, one, other); poly_times(field, one, other);
+        poly_rest(field, one, by); common_divisor(field, polys)""",
+    "aheadrows": """least_length(size, inputs); deep_rank(field, inputs, puts, depth); made_row(field, size, inputs);
+        finished_row(field, size, inputs, puts); deep_weights(field, size, inputs, puts);
+        unlearnt(field, size, inputs, puts); unlearnt_fault(field, size, inputs, puts, told)""",
+    "samplelines": "memory(size, samples)",
+    "unseen": "next_output(field, size, inputs, samples); twin_line(line, samples)",
+    "ways": """known_reply(field, kept, x, u); way_back(field, kept, flat); ways(field, kept, goal, ticks);
+        inputs_to(field, inputs, kept, x, flat)""",
+    "reaching": """reach_ticks(size, inputs, rank);
+        never_fault(field, inputs, kept, state, goal, ticks, never)""",
 }
 
 CLASSES = {
@@ -45,6 +60,25 @@ CLASSES = {
     ("onelaw", "OneLaw"): "__init__(self, table, spaces); __eq__(self, other)",
     ("onelaw", "Silent"): "__init__(self, row); __eq__(self, other)",
     ("onelaw", "Shadow"): "__init__(self, plant, rows, table); __eq__(self, other)",
+    ("wrongrows", "Disguise"): "__init__(self, record, plant, lot, other, other_lot); __eq__(self, other)",
+    ("asking", "Asker"): """__init__(self, field, size, inputs, kept=()); ask(self, x); hear(self, x, u, y);
+        reply(self, x, u); known(self); closed(self, x); __eq__(self, other)""",
+    ("learning", "Learning"): "__init__(self, puts, states, space, table); __eq__(self, other)",
+    ("lateasking", "LateAsker"): """__init__(self, field, size, inputs, late, start=None); hear(self, shown=None);
+        __eq__(self, other)""",
+    ("latefoes", "LateFoe"): """__init__(self, field, size, late, puts=()); put(self, u); tie(self); start(self);
+        plant(self); unlike(self); __eq__(self, other)""",
+    ("aheadrows", "Unlearnt"): "__init__(self, plant, start, silent, other); __eq__(self, other)",
+    ("samplelines", "Line"): """__init__(self, field, outs, ins); common_part(self); plant(self);
+        own_state(self, samples); outputs(self, start, puts); misses(self, samples); __eq__(self, other)""",
+    ("unseen", "UnseenAsker"): """__init__(self, field, size, inputs, samples=()); hear(self, y); line(self);
+        __eq__(self, other)""",
+    ("ways", "Flat"): "__init__(self, field, point, directions=()); holds(self, row); __eq__(self, other)",
+    ("reaching", "Never"): "__init__(self, space, rows); __eq__(self, other)",
+    ("reaching", "Reacher"): """__init__(self, field, size, inputs, rank, goal, start, *, first=None); hear(self, y);
+        __eq__(self, other)""",
+    ("reachfoes", "ReachFoe"): """__init__(self, field, size, inputs, rank, start, goal); put(self, u); plant(self);
+        __eq__(self, other)""",
 }
 
 

@@ -2,11 +2,10 @@
 
 import unittest
 from random import Random
-from time import perf_counter
 
-from sums import FRACTIONS, own_reply
+from sums import own_reply
+from timing import KINDS, Timed
 from untaughthelm.escapes import falling, find_escape
-from untaughthelm.fields import Field
 from untaughthelm.onelaw import one_law
 from untaughthelm.plants import Plant
 from untaughthelm.planttext import parse_plant, plant_text
@@ -14,33 +13,8 @@ from untaughthelm.reaches import drift, hull, input_rank, longest, nulls, puts_t
 from untaughthelm.records import Record
 from untaughthelm.unlike import fitting_plant, missed, reply, unlike
 
-# Here each call takes a small part of a second.
-MOST_SECONDS = 10
 
-
-def small_fraction(source):
-    return FRACTIONS.number(source.randint(-9, 9), source.randint(1, 9))
-
-
-def long_whole(source):
-    return source.randint(-10 ** 30 + 1, 10 ** 30 - 1), 1
-
-
-def rest_of(field):
-    return lambda source: (source.randrange(field.prime), 1)
-
-
-KINDS = ((FRACTIONS, small_fraction), (FRACTIONS, long_whole), (Field(2), rest_of(Field(2))),
-         (Field(97), rest_of(Field(97))))
-
-
-class Times(unittest.TestCase):
-    def timed(self, call, *things):
-        began = perf_counter()
-        told = call(*things)
-        self.assertLess(perf_counter() - began, MOST_SECONDS, call)
-        return told
-
+class Times(Timed):
     def kinds(self):
         for seed, (field, number) in enumerate(KINDS):
             source = Random(seed)

@@ -1,6 +1,6 @@
 """Fields: the exact fractions, or the rests by a prime."""
 
-from untaughthelm.errors import BadField, BadNumber, MixedFields
+from untaughthelm.errors import BadField, BadNumber, BadRow, MixedFields
 from untaughthelm.ratios import is_ratio, is_sequence, is_whole, make_ratio, parse_ratio, ratio_text
 from untaughthelm.ratios import ratio_minus, ratio_negative, ratio_over, ratio_plus, ratio_times
 
@@ -99,3 +99,14 @@ def same_field(one, other):
     """Raise MixedFields if two fields are unlike."""
     if one != other:
         raise MixedFields()
+
+
+def check_row(field, what, row, width):
+    """Raise BadRow(what) if a thing is no list or tuple of exactly width numbers of the field."""
+    if not field.holds_row(row, width):
+        raise BadRow(what)
+
+
+def holds_rows(field, thing, width, many=None):
+    """Return whether thing is a sequence of rows of this width, and of so many where that is told."""
+    return is_sequence(thing, many, many) and all([field.holds_row(row, width) for row in thing])

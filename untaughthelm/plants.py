@@ -1,6 +1,7 @@
 """Plants: x' = A x + B u."""
 
 from untaughthelm.errors import BadPlant, BadRow, BadTable
+from untaughthelm.fields import check_row, holds_rows
 from untaughthelm.ratios import is_sequence
 from untaughthelm.rows import as_table, row_plus, table_plus, table_row, table_table, unit_table
 from untaughthelm.spans import inverse
@@ -30,10 +31,8 @@ class Plant:
 
     def step(self, x, u):
         """Return the reply to the state x and the input u."""
-        if not self.field.holds_row(x, self.size):
-            raise BadRow("x")
-        if not self.field.holds_row(u, self.inputs):
-            raise BadRow("u")
+        check_row(self.field, "x", x, self.size)
+        check_row(self.field, "u", u, self.inputs)
         return self._reply(x, u)
 
     def run(self, start, puts):
@@ -42,9 +41,8 @@ class Plant:
 
     def steps(self, start, puts):
         """Yield the states that run returns."""
-        if not self.field.holds_row(start, self.size):
-            raise BadRow("start")
-        if not _holds_rows(self.field, puts, self.inputs):
+        check_row(self.field, "start", start, self.size)
+        if not holds_rows(self.field, puts, self.inputs):
             raise BadRow("puts")
         state = tuple(start)
         yield state
@@ -54,7 +52,7 @@ class Plant:
 
     def with_law(self, table):
         """Return the plant under the feedback law u = K x + v, K being the table."""
-        if not _holds_rows(self.field, table, self.size, self.inputs):
+        if not holds_rows(self.field, table, self.size, self.inputs):
             raise BadTable("law")
         fed_back = table_table(self.field, self.b, table)
         return Plant(self.field, table_plus(self.field, self.a, fed_back), self.b)
@@ -66,9 +64,9 @@ class Plant:
         """
         if input_table is None:
             input_table = unit_table(self.inputs)
-        if not _holds_rows(self.field, table, self.size, self.size):
+        if not holds_rows(self.field, table, self.size, self.size):
             raise BadTable("table")
-        if not _holds_rows(self.field, input_table, self.inputs, self.inputs):
+        if not holds_rows(self.field, input_table, self.inputs, self.inputs):
             raise BadTable("input_table")
         back = inverse(self.field, table)
         if back is None:
@@ -89,6 +87,12 @@ def _check_rows(field, what, table, width):
             raise BadPlant(what, at)
 
 
-def _holds_rows(field, thing, width, many=None):
-    # Whether thing is a sequence of rows of this width, and of so many where that is told.
-    return is_sequence(thing, many, many) and all([field.holds_row(row, width) for row in thing])
+def plant_of_rows(field, size, rows):
+    """Return the plant of these rows, each a row of A with the row of B behind it."""
+    return Plant(field, [row[:size] for row in rows], [row[size:] for row in rows])
+
+
+def plant_plus(plant, row):
+    """Return the plant with one row added to each row of A followed by B."""
+    rows = [row_plus(plant.field, a_row + b_row, row) for a_row, b_row in zip(plant.a, plant.b)]
+    return plant_of_rows(plant.field, plant.size, rows)

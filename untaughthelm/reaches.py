@@ -1,6 +1,7 @@
 """What a known plant can reach: spaces of states, told by their reduced echelon rows."""
 
-from untaughthelm.errors import BadRow, BadTicks
+from untaughthelm.errors import BadTicks
+from untaughthelm.fields import check_row
 from untaughthelm.ratios import is_whole
 from untaughthelm.rows import row_minus, row_table, table_row, table_table, turned, zero_row
 from untaughthelm.spans import Span, echelon_rows, silent_space
@@ -8,7 +9,7 @@ from untaughthelm.spans import Span, echelon_rows, silent_space
 
 def drift(plant, x, ticks):
     """Return the state behind so many ticks from the state x if every input is 0."""
-    _check_state(plant, "x", x)
+    check_row(plant.field, "x", x, plant.size)
     _check_ticks(ticks)
     state = tuple(x)
     for _ in range(ticks):
@@ -51,7 +52,7 @@ def nulls(plant, ticks):
 
 def hull(plant, start):
     """Return the least space that holds start and the columns of B, and with x also A x."""
-    _check_state(plant, "start", start)
+    check_row(plant.field, "start", start, plant.size)
     space = echelon_rows(plant.field, plant.size, (start,) + turned(plant.b))
     # Each round adds a state or more, or else none will.
     for _ in range(plant.size):
@@ -81,8 +82,8 @@ def uncontrolled(plant):
 
 def puts_to(plant, start, goal, ticks):
     """Return inputs that lead from start to goal in exactly so many ticks, None if there are none."""
-    _check_state(plant, "start", start)
-    _check_state(plant, "goal", goal)
+    check_row(plant.field, "start", start, plant.size)
+    check_row(plant.field, "goal", goal, plant.size)
     _check_ticks(ticks)
     missing = row_minus(plant.field, goal, drift(plant, start, ticks))
     point = Span(plant.field, plant.size, _first_columns(plant, ticks)).weights(missing)
@@ -100,11 +101,6 @@ def _first_columns(plant, ticks):
     late = (ticks - plant.size) * plant.inputs
     columns = turned(responses(plant, ticks))
     return [zero_row(plant.size) if early <= place < late else column for place, column in enumerate(columns)]
-
-
-def _check_state(plant, what, x):
-    if not plant.field.holds_row(x, plant.size):
-        raise BadRow(what)
 
 
 def _check_ticks(ticks):

@@ -1,7 +1,7 @@
 """Records: what was measured of one plant, row by row."""
 
-from untaughthelm.errors import BadCut, BadLot, BadRecord, BadRow
-from untaughthelm.fields import same_field
+from untaughthelm.errors import BadCut, BadLot, BadRecord
+from untaughthelm.fields import check_row, same_field
 from untaughthelm.ratios import ONE, is_sequence, is_whole
 from untaughthelm.rows import row_table
 from untaughthelm.spans import Span
@@ -15,9 +15,9 @@ class Record:
     def __init__(self, field, size, inputs, rows=()):
         _check_shape(size, inputs, rows)
         for x, u, y in rows:
-            _check_row(field, "x", x, size)
-            _check_row(field, "u", u, inputs)
-            _check_row(field, "y", y, size)
+            check_row(field, "x", x, size)
+            check_row(field, "u", u, inputs)
+            check_row(field, "y", y, size)
         self.field = field
         self.size = size
         self.inputs = inputs
@@ -56,8 +56,8 @@ class Record:
 
         The rows' z times these numbers add up to z; rows that are not kept have 0.
         """
-        _check_row(self.field, "x", x, self.size)
-        _check_row(self.field, "u", u, self.inputs)
+        check_row(self.field, "x", x, self.size)
+        check_row(self.field, "u", u, self.inputs)
         return self.span.weights(tuple(x) + tuple(u))
 
     def quarrel(self):
@@ -117,11 +117,6 @@ def _check_shape(size, inputs, rows):
         raise BadRecord("rows")
     if len(rows) > _MOST_ROWS:
         raise BadRecord("many")
-
-
-def _check_row(field, what, row, width):
-    if not field.holds_row(row, width):
-        raise BadRow(what)
 
 
 def _is_lot(thing, many):

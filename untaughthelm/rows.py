@@ -8,6 +8,11 @@ def as_table(rows):
     return tuple([tuple(row) for row in rows])
 
 
+def row_of_rows(rows):
+    """Return the numbers of some rows, one row behind another."""
+    return tuple([number for row in rows for number in row])
+
+
 def zero_row(width):
     """Return a row of zeros."""
     return (ZERO,) * width
@@ -44,6 +49,21 @@ def dot(field, one, other):
     for left, right in zip(one, other):
         total = field.plus(total, field.times(left, right))
     return total
+
+
+def lead_place(row):
+    """Return the first place at which the row is not 0, None if there is none."""
+    for place, number in enumerate(row):
+        if number != ZERO:
+            return place
+    return None
+
+
+def cleared(field, row, place, by):
+    """Return the row less the multiple of by, which has 1 at the place, that makes it 0 there."""
+    if row[place] == ZERO:
+        return row
+    return row_minus(field, row, row_times(field, row[place], by))
 
 
 def table_row(field, table, row):

@@ -2,7 +2,7 @@
 
 from untaughthelm.errors import BadRow, BadTable
 from untaughthelm.ratios import ONE, ZERO, is_sequence, is_whole
-from untaughthelm.rows import as_table, dot, row_minus, row_times, turned, unit_row, unit_table, zero_row
+from untaughthelm.rows import as_table, cleared, dot, lead_place, row_times, turned, unit_row, unit_table, zero_row
 
 
 class Span:
@@ -45,7 +45,7 @@ class Span:
     def is_new(self, row):
         """Return whether the row is no sum of multiples of the rows."""
         self._check(row)
-        return self._lead(self._reduce(tuple(row))) is not None
+        return self.rank < self.width and lead_place(self._reduce(tuple(row))[:self.width]) is not None
 
     def weights(self, row):
         """Return None if the row is new, otherwise one number for each of the rows.
@@ -54,7 +54,7 @@ class Span:
         """
         self._check(row)
         long = self._reduce(tuple(row))
-        if self._lead(long) is not None:
+        if lead_place(long[:self.width]) is not None:
             return None
         weights = list(zero_row(len(self.rows)))
         for place, number in zip(self.kept, long[self.width:]):
@@ -85,33 +85,25 @@ class Span:
         # rows that were added to it on the way.
         long = row + zero_row(self.rank)
         for lead, other in self._reduced:
-            long = _cleared(self.field, long, lead, other)
+            long = cleared(self.field, long, lead, other)
         return long
 
-    def _lead(self, long):
-        for place in range(self.width):
-            if long[place] != ZERO:
-                return place
-        return None
-
     def _take(self, row):
+        # A full span has no new rows, and to reduce one by it would be dear.
+        if self.rank < self.width:
+            self._keep_new(row)
+        self.rows = self.rows + (row,)
+
+    def _keep_new(self, row):
         long = self._reduce(row)
-        lead = self._lead(long)
+        lead = lead_place(long[:self.width])
         if lead is not None:
             long = row_times(self.field, self.field.over(ONE, long[lead]), long + (ONE,))
-            reduced = [(place, _cleared(self.field, other + (ZERO,), lead, long)) for place, other in self._reduced]
+            reduced = [(place, cleared(self.field, other + (ZERO,), lead, long)) for place, other in self._reduced]
             reduced.append((lead, long))
             self._reduced = tuple(sorted(reduced, key=lambda couple: couple[0]))
             self.kept = self.kept + (len(self.rows),)
             self.rank = self.rank + 1
-        self.rows = self.rows + (row,)
-
-
-def _cleared(field, row, place, by):
-    # The row less a multiple of by, which has 1 at the place, so that it is 0 there.
-    if row[place] == ZERO:
-        return row
-    return row_minus(field, row, row_times(field, row[place], by))
 
 
 def solve(field, table, goal):
@@ -143,6 +135,17 @@ def inverse(field, table):
 def echelon_rows(field, width, rows):
     """Return the reduced echelon rows of what some rows span."""
     return Span(field, width, rows).echelon()
+
+
+def first_new(span, inputs, before, behind=()):
+    """Return the first of the inputs 0, e1, .., em that makes a row new in the span, None if none does.
+
+    The row is before, then the input, then behind.
+    """
+    for put in (zero_row(inputs),) + unit_table(inputs):
+        if span.is_new(before + put + behind):
+            return put
+    return None
 
 
 def silent_space(field, width, rows):

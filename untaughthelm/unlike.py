@@ -2,10 +2,10 @@
 
 from untaughthelm.errors import NoFit
 from untaughthelm.fields import same_field
-from untaughthelm.plants import Plant
+from untaughthelm.plants import plant_of_rows, plant_plus
 from untaughthelm.ratios import ONE, ZERO
 from untaughthelm.records import check_sizes, sum_of_replies
-from untaughthelm.rows import dot, row_plus, row_times, zero_row
+from untaughthelm.rows import dot, row_times, zero_row
 from untaughthelm.spans import solve
 
 
@@ -25,7 +25,8 @@ def check_fits(record):
 def fitting_plant(record):
     """Return the plant that fits the record and has 0 wherever the record leaves the choice."""
     check_fits(record)
-    return _plant_of_rows(record, [_fitting_row(record, place) for place in range(record.size)])
+    rows = [_fitting_row(record, place) for place in range(record.size)]
+    return plant_of_rows(record.field, record.size, rows)
 
 
 def reply(record, x, u):
@@ -42,9 +43,7 @@ def unlike(record, x, u):
     if weights is not None:
         return None
     plant = fitting_plant(record)
-    row = _row_unheard(record, tuple(x) + tuple(u))
-    rows = [row_plus(record.field, a_row + b_row, row) for a_row, b_row in zip(plant.a, plant.b)]
-    return plant, _plant_of_rows(record, rows)
+    return plant, plant_plus(plant, _row_unheard(record, tuple(x) + tuple(u)))
 
 
 def _fitting_row(record, place):
@@ -61,9 +60,3 @@ def _row_unheard(record, z):
     field = record.field
     heard = [row for row in record.span.silent_rows() if dot(field, row, z) != ZERO]
     return row_times(field, field.over(ONE, dot(field, heard[0], z)), heard[0])
-
-
-def _plant_of_rows(record, rows):
-    # Each row is a row of A with the row of B behind it.
-    size = record.size
-    return Plant(record.field, [row[:size] for row in rows], [row[size:] for row in rows])
