@@ -46,6 +46,10 @@ FUNCTIONS = {
     "keeping": "keep(fit, box, bounds)",
     "sizes": "kept_sizes(fit, box, bounds)",
     "keepjudges": "keeper_fault(fit, box, bounds, told); lost_fault(fit, box, bounds, told)",
+    "schedules": "run_schedule(schedule, start, puts, pushes=())",
+    "changing": "rest_ticks(size, inputs, rank, exchanges); unrest_ticks(size, inputs, rank, exchanges, pushes)",
+    "storytext": "story_text(story); parse_story(text)",
+    "desk": "retell_story(story)",
 }
 
 CLASSES = {
@@ -99,6 +103,14 @@ CLASSES = {
     ("keeping", "Stop"): "__init__(self, place, side); __eq__(self, other)",
     ("keeping", "Lost"): "__init__(self, corner, blows, weights); __eq__(self, other)",
     ("sizes", "Sizes"): "__init__(self, least, greatest); __eq__(self, other)",
+    ("changing", "Stretch"): "__init__(self, begin, end, why); __eq__(self, other)",
+    ("changing", "Changer"): """__init__(self, field, size, inputs, rank, start, pushed=False); hear(self, y);
+        __eq__(self, other)""",
+    ("changefoes", "ChangeFoe"): """__init__(self, field, size, inputs, rank, start, exchanges); put(self, u);
+        tell_schedule(self); __eq__(self, other)""",
+    ("stories", "Story"): "__init__(self, field, size, inputs, deeds); __eq__(self, other)",
+    ("desk", "Desk"): """__init__(self, field, size, inputs); take_deed(self, deed); tell_story(self);
+        tried(self, call); __eq__(self, other)""",
 }
 
 

@@ -1,11 +1,9 @@
 """Linear programs over the fractions: what has the least costs, and certificates for it."""
 
-from math import lcm
-
 from untaughthelm.errors import BadProgram
 from untaughthelm.fields import Field
-from untaughthelm.ratios import ZERO, compare_ratios, is_ratio, is_sequence, make_ratio, ratio_negative
-from untaughthelm.ratios import ratio_over
+from untaughthelm.ratios import ZERO, common_bottom, compare_ratios, is_ratio, is_sequence, make_ratio, ratio_negative
+from untaughthelm.ratios import ratio_over, whole_times
 from untaughthelm.rows import dot, row_table, row_times, zero_row
 from untaughthelm.simplex import Tableau
 
@@ -54,9 +52,9 @@ class Program:
     def __init__(self, width, constraints):
         # The weights are unknowns that are 0 or more: times the parts they add up to the negative of
         # the costs, and times the ends to as little as can be. Each constraint is made whole.
-        self._scales = [_common_bottom(tuple(parts) + (end,)) for parts, end in constraints]
-        columns = [[_whole(part, scale) for part in parts] for (parts, _), scale in zip(constraints, self._scales)]
-        ends = [_whole(end, scale) for (_, end), scale in zip(constraints, self._scales)]
+        self._scales = [common_bottom(tuple(parts) + (end,)) for parts, end in constraints]
+        columns = [[whole_times(part, scale) for part in parts] for (parts, _), scale in zip(constraints, self._scales)]
+        ends = [whole_times(end, scale) for (_, end), scale in zip(constraints, self._scales)]
         self._tableau = Tableau(columns, ends, width)
         column = self._tableau.settle()
         # None if some point keeps all constraints.
@@ -66,8 +64,8 @@ class Program:
         """Return the Optimum for these costs, or why there is none."""
         if self.infeasible is not None:
             return self.infeasible
-        bottom = _common_bottom(costs)
-        at = self._tableau.meet([-_whole(cost, bottom) for cost in costs])
+        bottom = common_bottom(costs)
+        at = self._tableau.meet([-whole_times(cost, bottom) for cost in costs])
         if at is not None:
             return Unbounded(self.last_point(), self._ray(at, costs))
         return Optimum(self.last_point(), self._weights([row[-1] for row in self._tableau.rows], bottom))
@@ -158,15 +156,3 @@ def _is_ray(ray, costs, constraints):
     field = Field()
     return (field.holds_row(ray, len(costs)) and keeps(ray, [(parts, ZERO) for parts, end in constraints])
             and dot(field, costs, ray) == (-1, 1))
-
-
-def _common_bottom(numbers):
-    bottom = 1
-    for number in numbers:
-        bottom = lcm(bottom, number[1])
-    return bottom
-
-
-def _whole(number, scale):
-    # The number times a multiple of its bottom.
-    return number[0] * (scale // number[1])

@@ -1,6 +1,6 @@
 """Ratios: exact fractions, tuples (top, bottom) of whole numbers in lowest terms, the bottom 1 or more."""
 
-from math import gcd
+from math import gcd, lcm
 
 from untaughthelm.errors import BadNumber
 
@@ -101,6 +101,19 @@ def greatest_ratio(things):
         if compare_ratios(thing, greatest) > 0:
             greatest = thing
     return greatest
+
+
+def common_bottom(things):
+    """Return the least whole number above 0 that makes each of some ratios whole."""
+    bottom = 1
+    for thing in things:
+        bottom = lcm(bottom, thing[1])
+    return bottom
+
+
+def whole_times(one, factor):
+    """Return a ratio times a multiple of its bottom, as a whole number."""
+    return one[0] * (factor // one[1])
 
 
 def ratio_text(one):

@@ -92,6 +92,9 @@ class Reacher:
                 return None
             if before.holds(self.state):
                 return inputs_to(self.field, self.inputs, self.kept, self.state, flat).point
+            if before == flat:
+                # More ticks add no more states.
+                return None
             flat = before
         return None
 

@@ -1,8 +1,9 @@
 """Spans of rows, and what they decide: systems of equations and inverses."""
 
+from untaughthelm.echelons import Echelon
 from untaughthelm.errors import BadRow, BadTable
 from untaughthelm.ratios import ONE, ZERO, is_sequence, is_whole
-from untaughthelm.rows import as_table, cleared, dot, lead_place, row_times, turned, unit_row, unit_table, zero_row
+from untaughthelm.rows import as_table, dot, row_times, turned, unit_table, zero_row
 
 
 class Span:
@@ -20,10 +21,8 @@ class Span:
         self.rows = ()
         self.kept = ()
         self.rank = 0
-        # Couples of a leading place and a reduced echelon row, by ascending place. Behind each
-        # row stand the weights with which the kept rows add up to it, so that weights() can be
-        # read off without a second elimination.
-        self._reduced = ()
+        # It has the kept rows.
+        self._echelon = Echelon(field, width)
         for row in as_table(rows):
             self._take(row)
 
@@ -38,14 +37,15 @@ class Span:
         span.rows = self.rows
         span.kept = self.kept
         span.rank = self.rank
-        span._reduced = self._reduced
+        span._echelon = self._echelon
         span._take(tuple(row))
         return span
 
     def is_new(self, row):
         """Return whether the row is no sum of multiples of the rows."""
         self._check(row)
-        return self.rank < self.width and lead_place(self._reduce(tuple(row))[:self.width]) is not None
+        # In a full span no row is new, and to reduce one by it would be dear.
+        return self.rank < self.width and self._echelon.is_new(row)
 
     def weights(self, row):
         """Return None if the row is new, otherwise one number for each of the rows.
@@ -53,57 +53,33 @@ class Span:
         The rows times these numbers add up to the row; rows that are not kept have 0.
         """
         self._check(row)
-        long = self._reduce(tuple(row))
-        if lead_place(long[:self.width]) is not None:
+        told = self._echelon.weights(row)
+        if told is None:
             return None
         weights = list(zero_row(len(self.rows)))
-        for place, number in zip(self.kept, long[self.width:]):
-            weights[place] = self.field.negative(number)
+        for place, number in zip(self.kept, told):
+            weights[place] = number
         return tuple(weights)
 
     def echelon(self):
         """Return the reduced echelon rows of the span."""
-        return tuple([long[:self.width] for _, long in self._reduced])
+        return self._echelon.reduced_rows()
 
     def silent_rows(self):
         """Return a basis of all rows whose dot with each row of the span is 0."""
-        leads = [lead for lead, _ in self._reduced]
-        return tuple([self._silent_row(place) for place in range(self.width) if place not in leads])
-
-    def _silent_row(self, free):
-        row = list(unit_row(self.width, free))
-        for lead, long in self._reduced:
-            row[lead] = self.field.negative(long[free])
-        return tuple(row)
+        return self._echelon.silent_rows()
 
     def _check(self, row):
         if not self.field.holds_row(row, self.width):
             raise BadRow("row")
 
-    def _reduce(self, row):
-        # The row less what the reduced rows tell of it; behind it stand the weights of the kept
-        # rows that were added to it on the way.
-        long = row + zero_row(self.rank)
-        for lead, other in self._reduced:
-            long = cleared(self.field, long, lead, other)
-        return long
-
     def _take(self, row):
-        # A full span has no new rows, and to reduce one by it would be dear.
-        if self.rank < self.width:
-            self._keep_new(row)
-        self.rows = self.rows + (row,)
-
-    def _keep_new(self, row):
-        long = self._reduce(row)
-        lead = lead_place(long[:self.width])
-        if lead is not None:
-            long = row_times(self.field, self.field.over(ONE, long[lead]), long + (ONE,))
-            reduced = [(place, cleared(self.field, other + (ZERO,), lead, long)) for place, other in self._reduced]
-            reduced.append((lead, long))
-            self._reduced = tuple(sorted(reduced, key=lambda couple: couple[0]))
+        larger = self._echelon.with_new(row) if self.rank < self.width else None
+        if larger is not None:
+            self._echelon = larger
             self.kept = self.kept + (len(self.rows),)
-            self.rank = self.rank + 1
+            self.rank = larger.rank
+        self.rows = self.rows + (row,)
 
 
 def solve(field, table, goal):
